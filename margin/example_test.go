@@ -1,0 +1,32 @@
+package margin_test
+
+import (
+	"errors"
+	"fmt"
+
+	"margin/api"
+	"margin/margin"
+)
+
+func Example() {
+	d := margin.New()
+	list, _ := d.Element()
+	word, _ := d.Text("abcd")
+	d.Insert(0, list, 0)
+	d.Insert(list, word, 0)
+	fmt.Println(d.Show(0))
+
+	walk, _ := d.Walk(0)
+	for node := range walk {
+		fmt.Println(node)
+	}
+
+	err := d.Insert(0, word, 0)
+	fmt.Println(errors.Is(err, api.ErrParent))
+	// Output:
+	// <0 <1 2'abcd'>> <nil>
+	// 0
+	// 1
+	// 2
+	// true
+}

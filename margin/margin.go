@@ -1,0 +1,76 @@
+// Package margin: a tree of elements and texts, and ranges in it: see DOC.md.
+package margin
+
+import (
+	"margin/api"
+	"margin/tree"
+)
+
+// Doc is nodes and ranges.
+type Doc struct {
+	nodes *tree.Forest
+}
+
+// New gives a document (P3).
+func New() *Doc { return &Doc{nodes: tree.New()} }
+
+// Element makes an element (P4).
+func (d *Doc) Element() (int, error) {
+	number, err := d.nodes.Element()
+	return number, fault(err)
+}
+
+// Text makes a text (P4).
+func (d *Doc) Text(s string) (int, error) {
+	number, err := d.nodes.Text(s)
+	return number, fault(err)
+}
+
+// Insert puts a node under another one (P5).
+func (d *Doc) Insert(parent int, node int, index int) error {
+	return fault(d.nodes.Insert(parent, node, index))
+}
+
+// Remove takes a node from its parent (P6).
+func (d *Doc) Remove(node int) error {
+	return fault(d.nodes.Remove(node))
+}
+
+// Show tells a node, with all within it, as text (P7).
+func (d *Doc) Show(node int) (string, error) {
+	shown, err := d.nodes.Show(node)
+	return shown, fault(err)
+}
+
+// Walk gives a node and all within it (P8).
+func (d *Doc) Walk(node int) (func(yield func(node int) bool), error) {
+	walk, err := d.nodes.Walk(node)
+	return walk, fault(err)
+}
+
+// Replace puts characters in the place of others (P9).
+func (d *Doc) Replace(node int, offset int, count int, s string) error { return nil }
+
+// Split makes two texts of one (P10).
+func (d *Doc) Split(node int, offset int) (int, error) { return 0, nil }
+
+// Compare tells which of two places comes first (P11).
+func (d *Doc) Compare(a api.Place, b api.Place) (int, error) { return 0, nil }
+
+// Range makes a range (P12).
+func (d *Doc) Range() (int, error) { return 0, nil }
+
+// SetStart sets where a range begins (P13).
+func (d *Doc) SetStart(r int, p api.Place) error { return nil }
+
+// SetEnd sets where it ends (P13).
+func (d *Doc) SetEnd(r int, p api.Place) error { return nil }
+
+// Span tells from where to where a range is (P12).
+func (d *Doc) Span(r int) (api.Span, error) { return api.Span{}, nil }
+
+// Read tells the characters in a range (P14).
+func (d *Doc) Read(r int) (string, error) { return "", nil }
+
+// Delete takes away what is in a range (P15).
+func (d *Doc) Delete(r int) error { return nil }

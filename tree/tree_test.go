@@ -1,0 +1,108 @@
+package tree
+
+import (
+	"errors"
+	"slices"
+	"strings"
+	"testing"
+
+	"margin/api"
+	"margin/chars"
+)
+
+// grown gives the forest <0 <1 2'ab' <3>> 4'c'>, with 5 and 6 as trees of their own.
+func grown(t *testing.T) *Forest {
+	t.Helper()
+	f := New()
+	for _, create := range []func() (int, error){
+		f.Element,
+		func() (int, error) { return f.Text("ab") },
+		f.Element,
+		func() (int, error) { return f.Text("c") },
+		f.Element,
+		f.Element,
+	} {
+		if _, err := create(); err != nil {
+			t.Fatal(err)
+		}
+	}
+	for _, in := range [][3]int{{0, 1, 0}, {0, 4, 1}, {1, 2, 0}, {1, 3, 1}} {
+		if err := f.Insert(in[0], in[1], in[2]); err != nil {
+			t.Fatalf("Insert%v: %v", in, err)
+		}
+	}
+	return f
+}
+
+func refused(t *testing.T, what string, err error, number int, why error) {
+	t.Helper()
+	var refusal Refusal
+	if !errors.As(err, &refusal) || refusal.Node != number || !errors.Is(err, why) {
+		t.Errorf("%s: %v, want a refusal about %d: %v", what, err, number, why)
+	}
+}
+
+func TestRefusalsWrapWhatIsWrong(t *testing.T) {
+	f := grown(t)
+	refused(t, "no parent", f.Insert(7, 8, 9), 7, api.ErrNode)
+	refused(t, "no node", f.Insert(2, 7, 9), 7, api.ErrNode)
+	refused(t, "into a text", f.Insert(2, 1, 9), 2, api.ErrKind)
+	refused(t, "has a parent", f.Insert(3, 1, 9), 1, api.ErrParent)
+	refused(t, "into itself", f.Insert(5, 5, 9), 5, api.ErrCycle)
+	refused(t, "at no index", f.Insert(1, 5, 3), 1, api.ErrIndex)
+	refused(t, "no parent to take from", f.Remove(5), 5, api.ErrParent)
+	_, err := f.Text("ab\xff")
+	refused(t, "no text", err, 0, api.ErrText)
+	var flaw chars.Flaw
+	if !errors.As(err, &flaw) || flaw.At != 2 {
+		t.Errorf("no text: %v, want a flaw at 2", err)
+	}
+	if got, want := f.Remove(5).Error(), "node 5: problem 4"; got != want {
+		t.Errorf("Error = %q, want %q", got, want)
+	}
+}
+
+func TestAllMayBeStoppedAnywhere(t *testing.T) {
+	f := grown(t)
+	want := []int{0, 1, 2, 3, 4}
+	for stop := range want {
+		var got []int
+		for number := range f.all(0) {
+			got = append(got, number)
+			if number == want[stop] {
+				break
+			}
+		}
+		if !slices.Equal(got, want[:stop+1]) {
+			t.Errorf("stopped at %d: %v, want %v", want[stop], got, want[:stop+1])
+		}
+	}
+}
+
+func TestHolds(t *testing.T) {
+	f := grown(t)
+	held := map[int][]int{0: {0, 1, 2, 3, 4}, 1: {1, 2, 3}, 2: {2}, 3: {3}, 4: {4}, 5: {5}, 6: {6}}
+	for number, want := range held {
+		for other := range 7 {
+			if got := f.holds(number, other); got != slices.Contains(want, other) {
+				t.Errorf("holds(%d, %d) = %v", number, other, got)
+			}
+		}
+	}
+}
+
+func TestAddStopsAtTheLimit(t *testing.T) {
+	f := New()
+	for len(f.nodes) < api.MaxNodes {
+		if _, err := f.Element(); err != nil {
+			t.Fatalf("Element with %d nodes: %v", len(f.nodes), err)
+		}
+	}
+	_, err := f.Element()
+	refused(t, "Element", err, Root, api.ErrFull)
+	_, err = f.Text(strings.Repeat("a", api.MaxText))
+	refused(t, "Text", err, Root, api.ErrFull)
+	if len(f.nodes) != api.MaxNodes {
+		t.Errorf("%d nodes, want %d", len(f.nodes), api.MaxNodes)
+	}
+}
