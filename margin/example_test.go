@@ -23,10 +23,17 @@ func Example() {
 
 	err := d.Insert(0, word, 0)
 	fmt.Println(errors.Is(err, api.ErrParent))
+
+	d.Replace(word, 1, 2, "-é-")
+	d.Split(word, 2)
+	fmt.Println(d.Show(0))
+	fmt.Println(d.Compare(api.Place{Node: word, Offset: 2}, api.Place{Node: list, Offset: 1}))
 	// Output:
 	// <0 <1 2'abcd'>> <nil>
 	// 0
 	// 1
 	// 2
 	// true
+	// <0 <1 2'a-' 3'é-d'>> <nil>
+	// -1 <nil>
 }

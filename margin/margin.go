@@ -49,13 +49,21 @@ func (d *Doc) Walk(node int) (func(yield func(node int) bool), error) {
 }
 
 // Replace puts characters in the place of others (P9).
-func (d *Doc) Replace(node int, offset int, count int, s string) error { return nil }
+func (d *Doc) Replace(node int, offset int, count int, s string) error {
+	return fault(d.nodes.Replace(node, offset, count, s))
+}
 
 // Split makes two texts of one (P10).
-func (d *Doc) Split(node int, offset int) (int, error) { return 0, nil }
+func (d *Doc) Split(node int, offset int) (int, error) {
+	number, err := d.nodes.Split(node, offset)
+	return number, fault(err)
+}
 
 // Compare tells which of two places comes first (P11).
-func (d *Doc) Compare(a api.Place, b api.Place) (int, error) { return 0, nil }
+func (d *Doc) Compare(a api.Place, b api.Place) (int, error) {
+	order, err := d.nodes.Compare(a, b)
+	return order, fault(err)
+}
 
 // Range makes a range (P12).
 func (d *Doc) Range() (int, error) { return 0, nil }

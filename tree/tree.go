@@ -34,7 +34,7 @@ func New() *Forest {
 
 // Element makes an element without children or parent.
 func (f *Forest) Element() (int, error) {
-	return f.add(node{parent: noParent})
+	return f.add(node{parent: noParent}, Root)
 }
 
 // Text makes a text without parent.
@@ -43,13 +43,17 @@ func (f *Forest) Text(s string) (int, error) {
 		return 0, Refusal{Root, err}
 	}
 	// A copy, since s may be a short piece of a long string, all of which would be kept with it.
-	return f.add(node{parent: noParent, isText: true, characters: strings.Clone(s)})
+	return f.addText(strings.Clone(s), Root)
+}
+
+func (f *Forest) addText(characters string, about int) (int, error) {
+	return f.add(node{parent: noParent, isText: true, characters: characters}, about)
 }
 
 // add relies on no node ever leaving the forest: how many there are is how many were ever made.
-func (f *Forest) add(n node) (int, error) {
+func (f *Forest) add(n node, about int) (int, error) {
 	if len(f.nodes) >= api.MaxNodes {
-		return 0, Refusal{Root, api.ErrFull}
+		return 0, Refusal{about, api.ErrFull}
 	}
 	f.nodes = append(f.nodes, n)
 	return len(f.nodes) - 1, nil
@@ -68,10 +72,14 @@ func (f *Forest) Insert(parent int, number int, index int) error {
 	if err := f.mayInsert(parent, number, index); err != nil {
 		return err
 	}
+	f.attach(parent, number, index)
+	return nil
+}
+
+func (f *Forest) attach(parent int, number int, index int) {
 	above := &f.nodes[parent]
 	above.children = slices.Insert(above.children, index, number)
 	f.nodes[number].parent = parent
-	return nil
 }
 
 func (f *Forest) mayInsert(parent int, number int, index int) error {
@@ -104,8 +112,13 @@ func (f *Forest) Remove(number int) error {
 		return Refusal{number, api.ErrParent}
 	}
 	above := &f.nodes[parent]
-	index := slices.Index(above.children, number)
+	index := f.index(number)
 	above.children = slices.Delete(above.children, index, index+1)
 	f.nodes[number].parent = noParent
 	return nil
+}
+
+// index tells which child of its parent a node is, which must have one.
+func (f *Forest) index(number int) int {
+	return slices.Index(f.nodes[f.nodes[number].parent].children, number)
 }

@@ -62,6 +62,60 @@ func TestRefusalsWrapWhatIsWrong(t *testing.T) {
 	}
 }
 
+func TestRefusalsAboutTextsWrapWhatIsWrong(t *testing.T) {
+	f := grown(t)
+	refused(t, "Replace in an element", f.Replace(1, 9, 9, "\xff"), 1, api.ErrKind)
+	_, err := f.Split(7, 0)
+	refused(t, "Split of no node", err, 7, api.ErrNode)
+	refused(t, "a bad text", f.Replace(2, 1, 0, "a\xff"), 2, api.ErrText)
+	_, compared := f.Compare(api.Place{Node: 4}, api.Place{Node: 2, Offset: 9})
+	_, err = f.Split(2, 9)
+	for _, err := range []error{err, compared, f.Replace(2, 9, 0, "")} {
+		refused(t, "at no offset", err, 2, api.ErrIndex)
+		var outside chars.Outside
+		if !errors.As(err, &outside) || outside.Offset != 9 {
+			t.Errorf("%v, want one that is outside, at 9", err)
+		}
+	}
+	_, err = f.Compare(api.Place{Node: 0, Offset: 3}, api.Place{})
+	refused(t, "an element without such an offset", err, 0, api.ErrIndex)
+	_, err = f.Compare(api.Place{Node: 5}, api.Place{Node: 6})
+	refused(t, "two trees", err, 6, api.ErrRoots)
+}
+
+func TestIndexAndTop(t *testing.T) {
+	f := grown(t)
+	for number, want := range map[int]int{1: 0, 2: 0, 3: 1, 4: 1} {
+		if got := f.index(number); got != want {
+			t.Errorf("index(%d) = %d, want %d", number, got, want)
+		}
+	}
+	for number, want := range []int{0, 0, 0, 0, 0, 5, 6} {
+		if got := f.top(number); got != want {
+			t.Errorf("top(%d) = %d, want %d", number, got, want)
+		}
+	}
+}
+
+func TestPathsGoDownFromTheTop(t *testing.T) {
+	f := grown(t)
+	for _, c := range []struct {
+		place api.Place
+		want  []int
+	}{
+		{api.Place{Node: 0, Offset: 0}, []int{0}},
+		{api.Place{Node: 2, Offset: 1}, []int{0, 0, 1}},
+		{api.Place{Node: 1, Offset: 2}, []int{0, 2}},
+		{api.Place{Node: 3, Offset: 0}, []int{0, 1, 0}},
+		{api.Place{Node: 4, Offset: 1}, []int{1, 1}},
+		{api.Place{Node: 5, Offset: 0}, []int{0}},
+	} {
+		if got := f.path(c.place); !slices.Equal(got, c.want) {
+			t.Errorf("path(%v) = %v, want %v", c.place, got, c.want)
+		}
+	}
+}
+
 func TestAllMayBeStoppedAnywhere(t *testing.T) {
 	f := grown(t)
 	want := []int{0, 1, 2, 3, 4}
@@ -102,6 +156,12 @@ func TestAddStopsAtTheLimit(t *testing.T) {
 	refused(t, "Element", err, Root, api.ErrFull)
 	_, err = f.Text(strings.Repeat("a", api.MaxText))
 	refused(t, "Text", err, Root, api.ErrFull)
+	f = grown(t)
+	for len(f.nodes) < api.MaxNodes {
+		f.Element()
+	}
+	_, err = f.Split(2, 1)
+	refused(t, "Split", err, 2, api.ErrFull)
 	if len(f.nodes) != api.MaxNodes {
 		t.Errorf("%d nodes, want %d", len(f.nodes), api.MaxNodes)
 	}
