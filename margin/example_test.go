@@ -25,9 +25,17 @@ func Example() {
 	fmt.Println(errors.Is(err, api.ErrParent))
 
 	d.Replace(word, 1, 2, "-é-")
-	d.Split(word, 2)
+	next, _ := d.Split(word, 2)
 	fmt.Println(d.Show(0))
 	fmt.Println(d.Compare(api.Place{Node: word, Offset: 2}, api.Place{Node: list, Offset: 1}))
+
+	r, _ := d.Range()
+	d.SetEnd(r, api.Place{Node: next, Offset: 3})
+	d.SetStart(r, api.Place{Node: next, Offset: 1})
+	d.Replace(next, 0, 0, "x")
+	fmt.Println(d.Span(r))
+	d.Remove(next)
+	fmt.Println(d.Span(r))
 	// Output:
 	// <0 <1 2'abcd'>> <nil>
 	// 0
@@ -36,4 +44,6 @@ func Example() {
 	// true
 	// <0 <1 2'a-' 3'é-d'>> <nil>
 	// -1 <nil>
+	// {{3 2} {3 4}} <nil>
+	// {{1 1} {1 1}} <nil>
 }

@@ -54,6 +54,17 @@ func grove(t *testing.T) *margin.Doc {
 	return d
 }
 
+// trees are all places of the document that grove gives, tree by tree, as they lie.
+func trees() [][]api.Place {
+	return [][]api.Place{
+		{
+			at(0, 0), at(7, 0), at(5, 0), at(5, 1), at(5, 2), at(7, 1), at(2, 0), at(7, 2),
+			at(0, 1), at(6, 0), at(0, 2), at(1, 0), at(4, 0), at(3, 0), at(3, 1), at(4, 1), at(1, 1), at(0, 3),
+		},
+		{at(8, 0), at(9, 0), at(9, 1), at(8, 1)},
+	}
+}
+
 func TestP11CompareOfTheExample(t *testing.T) {
 	d := example(t)
 	compares(t, d, at(0, 0), at(2, 0), -1)
@@ -65,11 +76,9 @@ func TestP11CompareOfTheExample(t *testing.T) {
 
 func TestP11CompareAllPlacesOfATree(t *testing.T) {
 	d := grove(t)
-	inOrder(t, d, []api.Place{
-		at(0, 0), at(7, 0), at(5, 0), at(5, 1), at(5, 2), at(7, 1), at(2, 0), at(7, 2),
-		at(0, 1), at(6, 0), at(0, 2), at(1, 0), at(4, 0), at(3, 0), at(3, 1), at(4, 1), at(1, 1), at(0, 3),
-	})
-	inOrder(t, d, []api.Place{at(8, 0), at(9, 0), at(9, 1), at(8, 1)})
+	for _, places := range trees() {
+		inOrder(t, d, places)
+	}
 }
 
 func TestP11CompareGoesWithWhatIsChanged(t *testing.T) {

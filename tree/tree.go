@@ -68,12 +68,12 @@ func (f *Forest) find(number int) error {
 }
 
 // Insert makes a node the child of another one, at that index.
-func (f *Forest) Insert(parent int, number int, index int) error {
+func (f *Forest) Insert(parent int, number int, index int) (Move, error) {
 	if err := f.mayInsert(parent, number, index); err != nil {
-		return err
+		return nil, err
 	}
 	f.attach(parent, number, index)
-	return nil
+	return shift(parent, index, 1), nil
 }
 
 func (f *Forest) attach(parent int, number int, index int) {
@@ -103,19 +103,20 @@ func (f *Forest) mayInsert(parent int, number int, index int) error {
 }
 
 // Remove takes a node from its parent, with all within it.
-func (f *Forest) Remove(number int) error {
+func (f *Forest) Remove(number int) (Move, error) {
 	if err := f.find(number); err != nil {
-		return err
+		return nil, err
 	}
 	parent := f.nodes[number].parent
 	if parent == noParent {
-		return Refusal{number, api.ErrParent}
+		return nil, Refusal{number, api.ErrParent}
 	}
 	above := &f.nodes[parent]
 	index := f.index(number)
 	above.children = slices.Delete(above.children, index, index+1)
 	f.nodes[number].parent = noParent
-	return nil
+	gone := slices.Collect(f.all(number))
+	return gather(gone, api.Place{Node: parent, Offset: index}, shift(parent, index, -1)), nil
 }
 
 // index tells which child of its parent a node is, which must have one.

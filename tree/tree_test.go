@@ -27,11 +27,19 @@ func grown(t *testing.T) *Forest {
 		}
 	}
 	for _, in := range [][3]int{{0, 1, 0}, {0, 4, 1}, {1, 2, 0}, {1, 3, 1}} {
-		if err := f.Insert(in[0], in[1], in[2]); err != nil {
+		if _, err := f.Insert(in[0], in[1], in[2]); err != nil {
 			t.Fatalf("Insert%v: %v", in, err)
 		}
 	}
 	return f
+}
+
+// failed gives the error of a change, unless there is a Move beside it.
+func failed(move Move, err error) error {
+	if move != nil {
+		return nil
+	}
+	return err
 }
 
 func refused(t *testing.T, what string, err error, number int, why error) {
@@ -44,33 +52,33 @@ func refused(t *testing.T, what string, err error, number int, why error) {
 
 func TestRefusalsWrapWhatIsWrong(t *testing.T) {
 	f := grown(t)
-	refused(t, "no parent", f.Insert(7, 8, 9), 7, api.ErrNode)
-	refused(t, "no node", f.Insert(2, 7, 9), 7, api.ErrNode)
-	refused(t, "into a text", f.Insert(2, 1, 9), 2, api.ErrKind)
-	refused(t, "has a parent", f.Insert(3, 1, 9), 1, api.ErrParent)
-	refused(t, "into itself", f.Insert(5, 5, 9), 5, api.ErrCycle)
-	refused(t, "at no index", f.Insert(1, 5, 3), 1, api.ErrIndex)
-	refused(t, "no parent to take from", f.Remove(5), 5, api.ErrParent)
+	refused(t, "no parent", failed(f.Insert(7, 8, 9)), 7, api.ErrNode)
+	refused(t, "no node", failed(f.Insert(2, 7, 9)), 7, api.ErrNode)
+	refused(t, "into a text", failed(f.Insert(2, 1, 9)), 2, api.ErrKind)
+	refused(t, "has a parent", failed(f.Insert(3, 1, 9)), 1, api.ErrParent)
+	refused(t, "into itself", failed(f.Insert(5, 5, 9)), 5, api.ErrCycle)
+	refused(t, "at no index", failed(f.Insert(1, 5, 3)), 1, api.ErrIndex)
+	refused(t, "no parent to take from", failed(f.Remove(5)), 5, api.ErrParent)
 	_, err := f.Text("ab\xff")
 	refused(t, "no text", err, 0, api.ErrText)
 	var flaw chars.Flaw
 	if !errors.As(err, &flaw) || flaw.At != 2 {
 		t.Errorf("no text: %v, want a flaw at 2", err)
 	}
-	if got, want := f.Remove(5).Error(), "node 5: problem 4"; got != want {
+	if got, want := failed(f.Remove(5)).Error(), "node 5: problem 4"; got != want {
 		t.Errorf("Error = %q, want %q", got, want)
 	}
 }
 
 func TestRefusalsAboutTextsWrapWhatIsWrong(t *testing.T) {
 	f := grown(t)
-	refused(t, "Replace in an element", f.Replace(1, 9, 9, "\xff"), 1, api.ErrKind)
-	_, err := f.Split(7, 0)
-	refused(t, "Split of no node", err, 7, api.ErrNode)
-	refused(t, "a bad text", f.Replace(2, 1, 0, "a\xff"), 2, api.ErrText)
+	refused(t, "Replace in an element", failed(f.Replace(1, 9, 9, "\xff")), 1, api.ErrKind)
+	_, move, err := f.Split(7, 0)
+	refused(t, "Split of no node", failed(move, err), 7, api.ErrNode)
+	refused(t, "a bad text", failed(f.Replace(2, 1, 0, "a\xff")), 2, api.ErrText)
 	_, compared := f.Compare(api.Place{Node: 4}, api.Place{Node: 2, Offset: 9})
-	_, err = f.Split(2, 9)
-	for _, err := range []error{err, compared, f.Replace(2, 9, 0, "")} {
+	_, move, err = f.Split(2, 9)
+	for _, err := range []error{failed(move, err), compared, failed(f.Replace(2, 9, 0, ""))} {
 		refused(t, "at no offset", err, 2, api.ErrIndex)
 		var outside chars.Outside
 		if !errors.As(err, &outside) || outside.Offset != 9 {
@@ -160,8 +168,8 @@ func TestAddStopsAtTheLimit(t *testing.T) {
 	for len(f.nodes) < api.MaxNodes {
 		f.Element()
 	}
-	_, err = f.Split(2, 1)
-	refused(t, "Split", err, 2, api.ErrFull)
+	_, move, err := f.Split(2, 1)
+	refused(t, "Split", failed(move, err), 2, api.ErrFull)
 	if len(f.nodes) != api.MaxNodes {
 		t.Errorf("%d nodes, want %d", len(f.nodes), api.MaxNodes)
 	}
