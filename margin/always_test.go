@@ -21,7 +21,7 @@ func (d *dice) low(sides int) int { return d.throw(d.throw(sides) + 1) }
 // change makes a change, or tries one that is refused: many numbers are of nothing.
 func change(d *margin.Doc, by *dice) {
 	node, offset := by.low(api.MaxNodes+1), by.low(7)-by.low(2)
-	switch by.throw(16) {
+	switch by.throw(17) {
 	case 0:
 		d.Element()
 	case 1:
@@ -35,6 +35,11 @@ func change(d *margin.Doc, by *dice) {
 	case 10:
 		d.Split(node, offset)
 	case 11:
+		// Seldom, for it leaves little to go on with.
+		if by.throw(4) == 0 {
+			d.Delete(by.throw(api.MaxRanges + 1))
+		}
+	case 12:
 		d.SetStart(by.throw(api.MaxRanges+1), at(node, offset))
 	default:
 		d.SetEnd(by.throw(api.MaxRanges+1), at(node, offset))

@@ -34,7 +34,16 @@ func Example() {
 	d.SetStart(r, api.Place{Node: next, Offset: 1})
 	d.Replace(next, 0, 0, "x")
 	fmt.Println(d.Span(r))
-	d.Remove(next)
+	fmt.Println(d.Read(r))
+
+	d.SetStart(r, api.Place{Node: word, Offset: 1})
+	d.SetEnd(r, api.Place{Node: next, Offset: 2})
+	d.Delete(r)
+	fmt.Println(d.Show(0))
+	fmt.Println(d.Span(r))
+
+	d.SetEnd(r, api.Place{Node: next, Offset: 2})
+	d.Remove(word)
 	fmt.Println(d.Span(r))
 	// Output:
 	// <0 <1 2'abcd'>> <nil>
@@ -45,5 +54,8 @@ func Example() {
 	// <0 <1 2'a-' 3'é-d'>> <nil>
 	// -1 <nil>
 	// {{3 2} {3 4}} <nil>
+	// -d <nil>
+	// <0 <1 2'a' 3'-d'>> <nil>
 	// {{1 1} {1 1}} <nil>
+	// {{1 0} {3 2}} <nil>
 }

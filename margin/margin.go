@@ -102,7 +102,12 @@ func (d *Doc) Span(r int) (api.Span, error) {
 }
 
 // Read tells the characters in a range (P14).
-func (d *Doc) Read(r int) (string, error) { return "", nil }
+func (d *Doc) Read(r int) (string, error) {
+	characters, err := d.ranges.Read(r)
+	return characters, fault(err)
+}
 
 // Delete takes away what is in a range (P15).
-func (d *Doc) Delete(r int) error { return nil }
+func (d *Doc) Delete(r int) error {
+	return fault(d.ranges.Delete(r))
+}

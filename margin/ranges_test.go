@@ -66,6 +66,8 @@ func TestP1RefusedCallsMoveNoRange(t *testing.T) {
 		d.Split(2, n)
 		d.SetStart(n, at(0, 0))
 		d.SetEnd(n, at(0, 0))
+		d.Read(n)
+		d.Delete(n)
 		d.SetStart(0, at(n, 0))
 		d.SetEnd(0, at(n, 0))
 		d.SetStart(0, at(0, n))
@@ -93,6 +95,10 @@ func TestP2RangesOfDocumentsAreTheirOwn(t *testing.T) {
 	lay(t, one, 0, at(2, 1), at(2, 3))
 	spans(t, two, 0, at(0, 0), at(0, 0))
 	lay(t, two, 0, at(2, 2), at(3, 1))
+	reads(t, one, 0, "bc")
+	reads(t, two, 0, "cdé")
+	erase(t, one, 0)
+	reads(t, two, 0, "cdé")
 	remove(t, one, 1)
 	spans(t, one, 0, at(0, 0), at(0, 0))
 	spans(t, two, 0, at(2, 2), at(3, 1))
@@ -104,6 +110,8 @@ func TestP3NewHasNoRanges(t *testing.T) {
 	spanRefused(t, d, 0)
 	faulty(t, "SetStart", d.SetStart(0, at(0, 0)), 0, api.ErrRange)
 	faulty(t, "SetEnd", d.SetEnd(0, at(0, 0)), 0, api.ErrRange)
+	readRefused(t, d, 0)
+	faulty(t, "Delete", d.Delete(0), 0, api.ErrRange)
 }
 
 func TestP12RangesAreNumberedAndStartAtTheRoot(t *testing.T) {

@@ -87,3 +87,27 @@ func (l *List) Follow(move tree.Move) {
 		l.spans[i] = api.Span{Start: move(span.Start), End: move(span.End)}
 	}
 }
+
+// Read tells the characters in a range.
+func (l *List) Read(number int) (string, error) {
+	span, err := l.Span(number)
+	if err != nil {
+		return "", err
+	}
+	return l.nodes.Read(span), nil
+}
+
+// Delete takes away what is in a range; then it is at the one place that is left of it.
+func (l *List) Delete(number int) error {
+	span, err := l.Span(number)
+	if err != nil {
+		return err
+	}
+	left, move, err := l.nodes.Delete(span)
+	if err != nil {
+		return err
+	}
+	l.Follow(move)
+	l.spans[number] = api.Span{Start: left, End: left}
+	return nil
+}

@@ -36,7 +36,8 @@ func spans(t *testing.T, l *List, start, end api.Place) {
 func TestMissingWrapsTheProblem(t *testing.T) {
 	l := list(t)
 	_, err := l.Span(1)
-	for _, err := range []error{err, l.SetStart(1, at(9, 9)), l.SetEnd(1, at(9, 9))} {
+	_, unread := l.Read(1)
+	for _, err := range []error{err, unread, l.SetStart(1, at(9, 9)), l.SetEnd(1, at(9, 9)), l.Delete(1)} {
 		var missing Missing
 		if !errors.As(err, &missing) || missing.Range != 1 || !errors.Is(err, api.ErrRange) {
 			t.Errorf("%v, want that range 1 is missing", err)
@@ -94,5 +95,28 @@ func TestFollowMovesBothPlacesOfEachRange(t *testing.T) {
 	spans(t, l, at(10, 1), at(11, 3))
 	if got, _ := l.Span(1); got != (api.Span{Start: at(11, 2), End: at(11, 2)}) {
 		t.Errorf("Span(1) = %v", got)
+	}
+}
+
+func TestReadAndDeleteAreOfOneRange(t *testing.T) {
+	l := list(t)
+	l.Add()
+	l.SetEnd(0, at(1, 1))
+	l.SetEnd(1, at(1, 2))
+	for number, want := range []string{"a", "ab"} {
+		if got, err := l.Read(number); got != want || err != nil {
+			t.Errorf("Read(%d) = %q, %v, want %q", number, got, err, want)
+		}
+	}
+	l.SetStart(0, at(1, 0))
+	if err := l.Delete(0); err != nil {
+		t.Fatal(err)
+	}
+	spans(t, l, at(1, 0), at(1, 0))
+	if got, _ := l.Span(1); got != (api.Span{Start: at(0, 0), End: at(1, 1)}) {
+		t.Errorf("Span(1) = %v", got)
+	}
+	if got, _ := l.Read(1); got != "b" {
+		t.Errorf("Read(1) = %q", got)
 	}
 }

@@ -29,6 +29,16 @@ func gather(numbers []int, to api.Place, others Move) Move {
 	}
 }
 
+// inTurn moves places by some Moves, each of which goes on from where the one ahead of it leads.
+func inTurn(moves []Move) Move {
+	return func(p api.Place) api.Place {
+		for _, move := range moves {
+			p = move(p)
+		}
+		return p
+	}
+}
+
 // resize moves the places in a text of which, from offset on, so many characters were taken, and so many given for them.
 func resize(number int, offset int, taken int, given int) Move {
 	behind := shift(number, offset+taken, given-taken)

@@ -18,7 +18,12 @@ func (f *Forest) Compare(a api.Place, b api.Place) (int, error) {
 	if f.top(a.Node) != f.top(b.Node) {
 		return 0, Refusal{b.Node, api.ErrRoots}
 	}
-	return slices.Compare(f.path(a), f.path(b)), nil
+	return f.order(a, b), nil
+}
+
+// order compares two places of one tree.
+func (f *Forest) order(a api.Place, b api.Place) int {
+	return slices.Compare(f.path(a), f.path(b))
 }
 
 // findPlace answers an error, if there is no such node, or it has no such offset.
@@ -36,6 +41,11 @@ func (f *Forest) findPlace(p api.Place) error {
 		return Refusal{p.Node, api.ErrIndex}
 	}
 	return nil
+}
+
+// ahead gives the place directly ahead of a node, which must have a parent.
+func (f *Forest) ahead(number int) api.Place {
+	return api.Place{Node: f.nodes[number].parent, Offset: f.index(number)}
 }
 
 // top gives the node of a node's tree that has no parent.

@@ -107,16 +107,15 @@ func (f *Forest) Remove(number int) (Move, error) {
 	if err := f.find(number); err != nil {
 		return nil, err
 	}
-	parent := f.nodes[number].parent
-	if parent == noParent {
+	if f.nodes[number].parent == noParent {
 		return nil, Refusal{number, api.ErrParent}
 	}
-	above := &f.nodes[parent]
-	index := f.index(number)
-	above.children = slices.Delete(above.children, index, index+1)
+	left := f.ahead(number)
+	above := &f.nodes[left.Node]
+	above.children = slices.Delete(above.children, left.Offset, left.Offset+1)
 	f.nodes[number].parent = noParent
 	gone := slices.Collect(f.all(number))
-	return gather(gone, api.Place{Node: parent, Offset: index}, shift(parent, index, -1)), nil
+	return gather(gone, left, shift(left.Node, left.Offset, -1)), nil
 }
 
 // index tells which child of its parent a node is, which must have one.
